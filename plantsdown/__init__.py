@@ -1,0 +1,1 @@
+"""Plants turned down on a tree of feeders."""

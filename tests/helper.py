@@ -1,0 +1,116 @@
+"""What the tests share: calls by name, and the document's words tried out the slow way."""
+
+from itertools import product
+
+from plantsdown.feeders import answers
+
+OPEN, FEEDER, CAP, PLANT, WANT, LEAVE, BY_AGE, BY, EVEN = range(9)
+MOST = 1000000000
+FAR = 1000000000000000000
+
+
+def by(*order):
+    return [BY, len(order), *order]
+
+
+def join(calls):
+    return [number for call in calls for number in call]
+
+
+def split(told):
+    found = []
+    while told:
+        count = told[0]
+        if count < 1 or len(told) < count + 1:
+            raise AssertionError(f"no such count of numbers: {told}")
+        found.append(told[1:count + 1])
+        told = told[count + 1:]
+    return found
+
+
+def ask(*calls):
+    """Each call's answer, when the calls stand in one list."""
+    found = split(answers(join(calls)))
+    if len(found) != len(calls):
+        raise AssertionError(f"{len(found)} answers to {len(calls)} calls")
+    return found
+
+
+def last(*calls):
+    return ask(*calls)[-1]
+
+
+def accepted(case, *calls):
+    """The last call's answer, where no call may be refused."""
+    found = ask(*calls)
+    for call, answer in zip(calls, found):
+        case.assertEqual(answer[0], 0, call)
+    return found[-1]
+
+
+def chain(count, capacity=MOST):
+    """Calls that open and make so many feeders, each hanging on the one before it."""
+    return [[OPEN, capacity]] + [[FEEDER, upper, capacity] for upper in range(1, count)]
+
+
+class Words:
+    """A tree and its plants as the document's words tell them, answered by trying out."""
+
+    def __init__(self, capacities, uppers, plants):
+        self.capacities = list(capacities)
+        self.uppers = list(uppers)
+        self.plants = [tuple(plant) for plant in plants]
+
+    def calls(self):
+        first = [[OPEN, self.capacities[0]]]
+        others = [[FEEDER, upper, capacity] for upper, capacity in zip(self.uppers[1:], self.capacities[1:])]
+        return first + others + [[PLANT, feeder, want] for feeder, want in self.plants]
+
+    def is_below(self, at, feeder):
+        while at > feeder:
+            at = self.uppers[at - 1]
+        return at == feeder
+
+    def fit(self, shares):
+        for (feeder, want), share in zip(self.plants, shares):
+            if not 0 <= share <= want:
+                return False
+        for feeder, capacity in enumerate(self.capacities, start=1):
+            through = sum(share for (at, want), share in zip(self.plants, shares) if self.is_below(at, feeder))
+            if through > capacity:
+                return False
+        return True
+
+    def by_order(self, places):
+        shares = [0] * len(self.plants)
+        for place in places:
+            for share in range(self.plants[place][1], -1, -1):
+                shares[place] = share
+                if self.fit(shares):
+                    break
+        return shares
+
+    def even(self):
+        every = product(*[range(want + 1) for feeder, want in self.plants])
+        return list(max((shares for shares in every if self.fit(shares)), key=lambda shares: (sorted(shares), shares)))
+
+
+class Draw:
+    """Numbers that look mixed but are the same each time."""
+
+    def __init__(self, seed):
+        self.state = seed
+
+    def below(self, limit):
+        self.state = (self.state * 6364136223846793005 + 1442695040888963407) % 2 ** 64
+        return (self.state >> 33) % limit
+
+    def shuffled(self, things):
+        left = list(things)
+        return [left.pop(self.below(len(left))) for _ in things]
+
+    def tree(self, feeders, plants, capacity, want):
+        """Words of a drawn tree, with capacities and wants of at most so much."""
+        capacities = [self.below(capacity + 1) for _ in range(feeders)]
+        uppers = [1] + [1 + self.below(feeder) for feeder in range(1, feeders)]
+        return Words(capacities, uppers, [(1 + self.below(feeders), self.below(want + 1)) for _ in range(plants)])
