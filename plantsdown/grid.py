@@ -38,6 +38,13 @@ class Grid:
     def set_capacity(self, feeder, capacity):
         self.capacities[feeder] = capacity
 
+    def feeder_numbers(self):
+        return list(range(1, len(self.capacities) + 1))
+
+    def feeders_below_first(self):
+        """All feeders but the first, each ahead of the one it hangs on, whose number is smaller."""
+        return list(range(len(self.capacities), 1, -1))
+
     def path_to_first(self, feeder):
         """The feeders that all that's given at this feeder goes through, itself first."""
         path = [feeder]
@@ -60,5 +67,17 @@ class Grid:
     def plant_numbers(self):
         return [plant.number for plant in self.plants]
 
+    def plants_but(self, number):
+        return [plant for plant in self.plants if plant.number != number]
+
     def drop_plant(self, number):
-        self.plants = [plant for plant in self.plants if plant.number != number]
+        self.plants = self.plants_but(number)
+
+    def with_plants(self, plants):
+        """Another grid with these feeders and the plants handed in, to see what would be."""
+        other = Grid()
+        other.capacities = dict(self.capacities)
+        other.hangs_on = dict(self.hangs_on)
+        other.plants = list(plants)
+        other.last_number = self.last_number
+        return other

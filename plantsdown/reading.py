@@ -9,7 +9,6 @@ RANGES = {
 
 MOST_IN_ROW = 12
 
-# All calls of the document stand here, so that a call which isn't answered yet is passed over whole.
 NUMBER_KINDS = {
     0: ("amount",),
     1: ("feeder", "amount"),

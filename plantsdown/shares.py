@@ -1,4 +1,6 @@
-"""Who gives how much: shares by an order, and shares as equal as can be."""
+"""Who gives how much: shares by an order, shares as equal as can be, and what they add up to."""
+
+EVENLY = 1
 
 
 def shares_by_order(grid, order):
@@ -15,15 +17,22 @@ def shares_by_order(grid, order):
     return [shares[number] for number in grid.plant_numbers()]
 
 
+def shares_by_age(grid):
+    return shares_by_order(grid, grid.plant_numbers())
+
+
+def total_of(grid):
+    return sum(shares_by_age(grid))
+
+
 def flows_of(grid, shares):
     """What goes through each feeder, by the feeders' numbers."""
     flows = {}
-    for feeder in grid.capacities:
+    for feeder in grid.feeder_numbers():
         flows[feeder] = 0
     for plant, share in zip(grid.plants, shares, strict=True):
         flows[plant.feeder] += share
-    # A feeder hangs on one with a smaller number: from the greatest down, each flow is whole before it's passed on.
-    for feeder in range(len(grid.capacities), 1, -1):
+    for feeder in grid.feeders_below_first():
         flows[grid.hangs_on[feeder]] += flows[feeder]
     return flows
 
@@ -75,3 +84,7 @@ def even_shares(grid):
         rising = still_rising
         level += 1
     return shares
+
+
+def shares_by_rule(grid, rule):
+    return even_shares(grid) if rule == EVENLY else shares_by_age(grid)

@@ -4,13 +4,26 @@ from itertools import product
 
 from plantsdown.feeders import answers
 
-OPEN, FEEDER, CAP, PLANT, WANT, LEAVE, BY_AGE, BY, EVEN = range(9)
+(OPEN, FEEDER, CAP, PLANT, WANT, LEAVE, BY_AGE, BY, EVEN,
+ TOTAL, FLOWS, ROOM, CUT, CHECK, DOWN, WORTH, WITHOUT, BOOK) = range(18)
 MOST = 1000000000
 FAR = 1000000000000000000
+ROOM_WANT = 13000000000
+BELOW_OR_ABOVE = [-1, MOST + 1, -MOST, FAR, -FAR, FAR - 1, 1 - FAR]
+NO_FEEDER_EVER = [0, 13, -1, FAR, -FAR, FAR - 1, 1 - FAR]
+NO_RULE = [-1, 2, FAR, -FAR]
 
 
 def by(*order):
     return [BY, len(order), *order]
+
+
+def check(*shares):
+    return [CHECK, len(shares), *shares]
+
+
+def worth(*feeders):
+    return [WORTH, len(feeders), *feeders]
 
 
 def join(calls):
@@ -38,6 +51,15 @@ def ask(*calls):
 
 def last(*calls):
     return ask(*calls)[-1]
+
+
+def ask_behind(calls, looks):
+    """Each look's answer behind the calls, in as many lists of at most 200 calls as it takes."""
+    step = 200 - len(calls)
+    found = []
+    for start in range(0, len(looks), step):
+        found += ask(*calls, *looks[start:start + step])[len(calls):]
+    return found
 
 
 def accepted(case, *calls):
@@ -71,28 +93,65 @@ class Words:
             at = self.uppers[at - 1]
         return at == feeder
 
+    def feeders(self):
+        return range(1, len(self.capacities) + 1)
+
+    def flows(self, shares):
+        return [sum(share for (at, want), share in zip(self.plants, shares) if self.is_below(at, feeder))
+                for feeder in self.feeders()]
+
     def fit(self, shares):
         for (feeder, want), share in zip(self.plants, shares):
             if not 0 <= share <= want:
                 return False
-        for feeder, capacity in enumerate(self.capacities, start=1):
-            through = sum(share for (at, want), share in zip(self.plants, shares) if self.is_below(at, feeder))
-            if through > capacity:
-                return False
-        return True
+        return all(through <= capacity for through, capacity in zip(self.flows(shares), self.capacities))
 
     def by_order(self, places):
         shares = [0] * len(self.plants)
         for place in places:
-            for share in range(self.plants[place][1], -1, -1):
+            # More than feeder 1 carries never fits, so it needn't be tried.
+            for share in range(min(self.plants[place][1], self.capacities[0]), -1, -1):
                 shares[place] = share
                 if self.fit(shares):
                     break
         return shares
 
-    def even(self):
+    def all_that_fit(self):
         every = product(*[range(want + 1) for feeder, want in self.plants])
-        return list(max((shares for shares in every if self.fit(shares)), key=lambda shares: (sorted(shares), shares)))
+        return [list(shares) for shares in every if self.fit(shares)]
+
+    def even(self):
+        return max(self.all_that_fit(), key=lambda shares: (sorted(shares), shares))
+
+    def by_rule(self, rule):
+        return self.even() if rule else self.by_order(range(len(self.plants)))
+
+    def total(self):
+        return sum(self.by_rule(0))
+
+    def room(self, feeder):
+        return Words(self.capacities, self.uppers, self.plants + [(feeder, ROOM_WANT)]).total() - self.total()
+
+    def without(self, place):
+        others = self.plants[:place] + self.plants[place + 1:]
+        return self.total() - Words(self.capacities, self.uppers, others).total()
+
+    def wish(self, feeder):
+        hanging = [lower for lower in self.feeders() if lower > 1 and self.uppers[lower - 1] == feeder]
+        return (sum(want for at, want in self.plants if at == feeder)
+                + sum(min(self.capacities[lower - 1], self.wish(lower)) for lower in hanging))
+
+    def stops(self, feeder):
+        return self.capacities[feeder - 1] < self.wish(feeder)
+
+    def cut(self):
+        return [feeder for feeder in self.feeders() if self.stops(feeder)
+                and not any(self.stops(upper) for upper in self.feeders() if upper != feeder
+                            and self.is_below(feeder, upper))]
+
+    def worth(self, row):
+        return (sum(self.capacities[feeder - 1] for feeder in row)
+                + sum(want for at, want in self.plants if not any(self.is_below(at, feeder) for feeder in row)))
 
 
 class Draw:

@@ -2,9 +2,11 @@
 
 import unittest
 
-from tests.helper import BY_AGE, CAP, EVEN, FEEDER, LEAVE, MOST, OPEN, PLANT, WANT, accepted, ask, by, chain, last
+from tests.helper import (BOOK, BY_AGE, CAP, CUT, DOWN, EVEN, FEEDER, FLOWS, LEAVE, MOST, OPEN, PLANT, ROOM, TOTAL,
+                          WANT, WITHOUT, accepted, ask, by, chain, check, last, worth)
 
-ANY_BUT_OPEN = [[FEEDER, 1, 5], [CAP, 1, 5], [PLANT, 1, 5], [WANT, 1, 5], [LEAVE, 1], [BY_AGE], by(), by(1), [EVEN]]
+ANY_BUT_OPEN = [[FEEDER, 1, 5], [CAP, 1, 5], [PLANT, 1, 5], [WANT, 1, 5], [LEAVE, 1], [BY_AGE], by(), by(1), [EVEN],
+                [TOTAL], [FLOWS, 0], [ROOM, 1], [CUT], check(), [DOWN, 1], worth(), [WITHOUT, 1], [BOOK]]
 TWELVE_PLANTS = [[PLANT, 1, 1]] * 12
 
 

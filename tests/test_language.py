@@ -74,6 +74,13 @@ class TopTest(unittest.TestCase):
                 if isinstance(node, ast.Expr):
                     self.assertIsInstance(node.value, ast.Constant)
 
+    def test_no_list_or_dict_within_another(self):
+        for path in FILES:
+            for node in tree_of(path).body:
+                if isinstance(node, ast.Assign):
+                    within = [part for part in ast.walk(node.value) if part != node.value]
+                    self.assertEqual([part for part in within if isinstance(part, (ast.List, ast.Dict, ast.Call))], [])
+
     def test_each_name_once(self):
         for path in FILES:
             names = []
@@ -125,6 +132,27 @@ class FormTest(unittest.TestCase):
     def test_plain_values(self):
         for path, node in nodes_of(ast.Constant):
             self.assertIn(type(node.value), (int, str, bool, type(None)))
+
+    def test_no_sets(self):
+        self.assertEqual(places(nodes_of(ast.Set, ast.SetComp)), [])
+        self.assertEqual([node.id for path, node in nodes_of(ast.Name) if node.id in ("set", "frozenset")], [])
+
+    def test_keywords(self):
+        for path, node in nodes_of(ast.Call):
+            for keyword in node.keywords:
+                self.assertEqual((node.func.id, keyword.arg), ("zip", "strict"), places([(path, node)]))
+                self.assertIsInstance(keyword.value, ast.Constant)
+
+    def test_walked_at_once(self):
+        walked = [node.iter for path, node in nodes_of(ast.For, ast.comprehension)]
+        walked += [node.args[0] for path, node in nodes_of(ast.Call)
+                   if node.args and getattr(node.func, "id", None) in ("list", "tuple", "dict", "sorted", "sum")]
+        spots = {(ast.unparse(node), node.lineno, node.col_offset) for node in walked}
+        for path, node in nodes_of(ast.Call):
+            if getattr(node.func, "id", None) in ("zip", "enumerate", "reversed", "range"):
+                self.assertIn((ast.unparse(node), node.lineno, node.col_offset), spots, path.name)
+            if isinstance(node.func, ast.Attribute):
+                self.assertNotIn(node.func.attr, ("items", "keys", "values"), path.name)
 
     def test_comprehensions(self):
         for path, node in nodes_of(ast.ListComp):

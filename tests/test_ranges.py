@@ -2,10 +2,8 @@
 
 import unittest
 
-from tests.helper import BY_AGE, CAP, EVEN, FAR, FEEDER, LEAVE, MOST, OPEN, PLANT, WANT, ask, by, chain, last
-
-BELOW_OR_ABOVE = [-1, MOST + 1, -MOST, FAR, -FAR, FAR - 1, 1 - FAR]
-NO_FEEDER_EVER = [0, 13, -1, FAR, -FAR, FAR - 1, 1 - FAR]
+from tests.helper import (BELOW_OR_ABOVE, BY_AGE, CAP, EVEN, FAR, FEEDER, LEAVE, MOST, NO_FEEDER_EVER, OPEN, PLANT,
+                          WANT, ask, by, chain, last)
 
 
 class AmountsTest(unittest.TestCase):

@@ -2,7 +2,12 @@
 
 import unittest
 
-from tests.helper import BY, BY_AGE, CAP, EVEN, FAR, FEEDER, LEAVE, MOST, OPEN, PLANT, WANT, Draw, Words, ask
+from tests.helper import (BOOK, BY, BY_AGE, CAP, CHECK, CUT, DOWN, EVEN, FAR, FEEDER, FLOWS, LEAVE, MOST, OPEN, PLANT,
+                          ROOM, TOTAL, WANT, WITHOUT, WORTH, Draw, Words, ask)
+
+CHANGES = [OPEN, FEEDER, FEEDER, FEEDER, CAP, CAP, PLANT, PLANT, PLANT, PLANT, WANT, LEAVE]
+LOOKS = [BY_AGE, BY, BY, EVEN, EVEN, TOTAL, FLOWS, FLOWS, ROOM, CUT, CUT, CHECK, CHECK, DOWN, DOWN, WORTH, WITHOUT,
+         BOOK]
 
 
 class Teller:
@@ -18,16 +23,25 @@ class Teller:
             return [-1]
         if self.feeders is None and call[0] != OPEN:
             return [-2]
-        if call[0] in (BY_AGE, BY, EVEN):
-            return self.shares(call)
+        if call[0] in (BY, CHECK, WORTH):
+            return self.look_by_row(call[0], call[2:])
+        if call[0] in LOOKS:
+            return self.look(*call)
         return self.change(call[0], *call[1:])
 
     def is_wrong(self, call):
-        if call[0] == BY:
+        number = call[0]
+        if number == BY:
             return call[1] > 12
-        if call[0] in (FEEDER, CAP, PLANT) and not 1 <= call[1] <= 12:
+        if number == CHECK:
+            return call[1] > 12 or any(not 0 <= amount <= MOST for amount in call[2:])
+        if number == WORTH:
+            return call[1] > 12 or any(not 1 <= feeder <= 12 for feeder in call[2:])
+        if number in (FLOWS, DOWN):
+            return call[1] not in (0, 1)
+        if number in (FEEDER, CAP, PLANT, ROOM) and not 1 <= call[1] <= 12:
             return True
-        return call[0] <= WANT and not 0 <= call[-1] <= MOST
+        return number <= WANT and not 0 <= call[-1] <= MOST
 
     def change(self, number, first, amount=None):
         if number == OPEN:
@@ -57,17 +71,40 @@ class Teller:
             self.plants = [plant for plant in self.plants if plant[0] != first]
         return [0]
 
-    def shares(self, call):
-        words = Words([capacity for upper, capacity in self.feeders], [upper for upper, capacity in self.feeders],
-                      [(at, want) for number, at, want in self.plants])
-        numbers = [number for number, at, want in self.plants]
-        if call[0] == EVEN:
-            return [0] + words.even()
-        if call[0] == BY_AGE:
-            return [0] + words.by_order(range(len(numbers)))
-        if len(call[2:]) != len(numbers) or any(call[2:].count(number) != 1 for number in numbers):
+    def words(self):
+        return Words([capacity for upper, capacity in self.feeders], [upper for upper, capacity in self.feeders],
+                     [(at, want) for number, at, want in self.plants])
+
+    def numbers(self):
+        return [number for number, at, want in self.plants]
+
+    def look_by_row(self, number, row):
+        words, numbers = self.words(), self.numbers()
+        if number == WORTH:
+            return [-3] if any(feeder > len(self.feeders) for feeder in row) else [0, words.worth(row)]
+        if len(row) != len(numbers):
             return [-6]
-        return [0] + words.by_order([numbers.index(number) for number in call[2:]])
+        if number == CHECK:
+            return [0, 1, words.total() - sum(row)] if words.fit(row) else [0, 0]
+        if any(row.count(plant) != 1 for plant in numbers):
+            return [-6]
+        return [0] + words.by_order([numbers.index(plant) for plant in row])
+
+    def look(self, number, first=None):
+        words, numbers = self.words(), self.numbers()
+        if number == ROOM:
+            return [-3] if first > len(self.feeders) else [0, words.room(first)]
+        if number == WITHOUT:
+            return [0, words.without(numbers.index(first))] if first in numbers else [-5]
+        if number in (BY_AGE, EVEN):
+            return [0] + words.by_rule(number == EVEN)
+        if number == FLOWS:
+            return [0] + words.flows(words.by_rule(first))
+        if number == DOWN:
+            return [0] + [plant[0] for plant, share in zip(self.plants, words.by_rule(first)) if share < plant[2]]
+        if number == BOOK:
+            return [0, len(self.feeders)] + [part for row in self.feeders + self.plants for part in row]
+        return [0, words.total()] if number == TOTAL else [0] + words.cut()
 
 
 class Drawer:
@@ -100,20 +137,43 @@ class Drawer:
             row[0] = self.plant(teller)
         return [len(row)] + row
 
+    def shares(self, teller):
+        row = [self.draw.below(want + 1) if self.draw.below(12) else self.amount(5) for _, _, want in teller.plants]
+        if self.draw.below(8) == 0:
+            row += [[self.amount(5)], [0] * 13][self.draw.below(2)]
+        return [len(row)] + row
+
+    def cut(self, teller):
+        count = self.draw.below(6) if self.draw.below(8) else self.draw.below(21)
+        return [count] + [self.feeder(teller) for _ in range(count)]
+
+    def rule(self):
+        return self.draw.below(2) if self.draw.below(8) else [-1, 2, FAR, -FAR][self.draw.below(4)]
+
     def call(self, teller):
-        number = [OPEN, FEEDER, FEEDER, CAP, CAP, PLANT, PLANT, PLANT, WANT, LEAVE, BY_AGE, BY, BY, EVEN, EVEN][
-            self.draw.below(15)]
+        if self.draw.below(2):
+            return self.look(teller, LOOKS[self.draw.below(len(LOOKS))])
+        number = CHANGES[self.draw.below(len(CHANGES))]
         if number == OPEN:
-            return [OPEN, self.amount(12)] if teller.feeders is None or self.draw.below(6) == 0 else [EVEN]
+            return [OPEN, self.amount(20)] if teller.feeders is None or self.draw.below(6) == 0 else [EVEN]
         if number == PLANT and len(teller.plants) >= self.most_plants:
             return [BY] + self.row(teller)
         if number in (FEEDER, CAP, PLANT):
             return [number, self.feeder(teller), self.amount(9 if number != PLANT else 5)]
         if number == WANT:
             return [WANT, self.plant(teller), self.amount(5)]
-        if number == LEAVE:
-            return [LEAVE, self.plant(teller)]
-        return [BY] + self.row(teller) if number == BY else [number]
+        return [LEAVE, self.plant(teller)]
+
+    def look(self, teller, number):
+        if number in (FLOWS, DOWN):
+            return [number, self.rule()]
+        if number == ROOM:
+            return [ROOM, self.feeder(teller)]
+        if number == WITHOUT:
+            return [WITHOUT, self.plant(teller)]
+        if number in (BY, CHECK, WORTH):
+            return [number] + {BY: self.row, CHECK: self.shares, WORTH: self.cut}[number](teller)
+        return [number]
 
 
 class SequencesTest(unittest.TestCase):
@@ -124,11 +184,16 @@ class SequencesTest(unittest.TestCase):
             wished.append(teller.answer(calls[-1]))
         for place, (found, wish) in enumerate(zip(ask(*calls), wished)):
             self.assertEqual(found, wish, calls[:place + 1])
-        return wished
+        return [(call[0], answer[0]) for call, answer in zip(calls, wished)]
 
     def test_long_ones(self):
-        met = {answer[0] for seed in range(12) for answer in self.check(seed, 200, 4)}
-        self.assertEqual(met, {0, -1, -2, -3, -4, -5, -6})
+        met = {found for seed in range(30) for found in self.check(seed, 200, 4)}
+        self.assertEqual({number for number, first in met if first == 0}, set(range(18)))
+        self.assertIn(-2, {first for number, first in met})
+        refused = {-1: {OPEN, FEEDER, CAP, PLANT, WANT, BY, FLOWS, ROOM, CHECK, DOWN, WORTH},
+                   -3: {FEEDER, CAP, PLANT, ROOM, WORTH}, -4: {FEEDER}, -5: {WANT, LEAVE, WITHOUT}, -6: {BY, CHECK}}
+        for refusal, numbers in refused.items():
+            self.assertEqual({number for number, first in met if first == refusal}, numbers, refusal)
 
     def test_short_ones(self):
         for seed in range(100, 160):
